@@ -1,0 +1,1 @@
+"""Tallgrass: what the last marks in a meadow tell about the day."""

@@ -1,0 +1,1 @@
+"""Errors, names, and the words of texts."""

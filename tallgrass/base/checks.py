@@ -1,0 +1,27 @@
+"""Checks that many parts of the program share."""
+
+from tallgrass.base.errors import BadName, BadNumber, TooMany, Twice, Unknown
+from tallgrass.base.words import is_name
+
+
+def check_number(number, least, most):
+    if number not in range(least, most + 1):
+        raise BadNumber(number)
+
+
+def check_count(count, most):
+    if count > most:
+        raise TooMany(most)
+
+
+def check_known(name, known):
+    if name not in known:
+        raise Unknown(name)
+
+
+def check_new(name, earlier):
+    """Checks a name that is to be declared behind the earlier ones."""
+    if not is_name(name):
+        raise BadName(name)
+    if name in earlier:
+        raise Twice(name)

@@ -1,0 +1,1 @@
+"""The meadow, its days, and their texts."""

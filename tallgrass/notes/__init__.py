@@ -1,0 +1,1 @@
+"""Notes, readings and books, and their texts."""

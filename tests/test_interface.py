@@ -1,0 +1,69 @@
+"""Each name of the interface is defined in its file, and each method in its class."""
+
+import ast
+import importlib
+import inspect
+import unittest
+
+ERRORS = ("GrassError BadName Unknown Twice BadPath BadPlacing BadNumber TooMany BadGoing OutOfReach BadMark BadNote "
+          "NotThere BadLine Clash NoDay TooLarge").split()
+
+# The signatures of functions and methods; a class stands with its own parameters under __init__.
+FILES = {
+    "tallgrass.field.meadow": {
+        "Meadow": {"__init__": "self, hours, places, walkers, paths, *, gates=(), signs=()",
+                   "grassy": "hours, places, walkers, paths", "__eq__": "self, other", "ends": "self, path",
+                   "across": "self, path, place", "paths_at": "self, place", "gate": "self, walker, path",
+                   "watching": "self, walker, path", "all_marks": "self, sign"}},
+    "tallgrass.field.days": {
+        "Day": {"__init__": "self, meadow, starts, goings", "__len__": "self", "__iter__": "self",
+                "__add__": "self, other", "__eq__": "self, other", "start": "self, walker", "home": "self, walker",
+                "starts": "self", "homes": "self", "placing": "self, k", "where": "self, walker, hour",
+                "shown": "self, sign", "last": "self, sign"},
+        "exchange": "day, at"},
+    "tallgrass.field.fieldtext": {
+        "meadow_text": "meadow", "read_meadow": "text", "day_text": "day", "read_day": "meadow, text"},
+    "tallgrass.notes.kinds": {
+        "normal_note": "meadow, note", "opposite": "meadow, note", "holds": "day, note",
+        "marks_where": "meadow, sign, **limits"},
+}
+
+
+def signature(function):
+    return str(inspect.signature(function))[1:-1]
+
+
+class Interface(unittest.TestCase):
+    def defined(self, name):
+        """The functions and classes that the file of a module defines itself."""
+        module = importlib.import_module(name)
+        with open(module.__file__, encoding="utf-8") as file:
+            tree = ast.parse(file.read())
+        return {node.name: getattr(module, node.name) for node in tree.body
+                if isinstance(node, (ast.FunctionDef, ast.ClassDef))}
+
+    def test_errors(self):
+        self.assertEqual(sorted(self.defined("tallgrass.base.errors")), sorted(ERRORS))
+
+    def test_functions_and_classes(self):
+        for file, names in FILES.items():
+            defined = self.defined(file)
+            for name, expected in names.items():
+                with self.subTest(file=file, name=name):
+                    self.assertIn(name, defined)
+                    if isinstance(expected, dict):
+                        self.check_class(defined[name], expected)
+                    else:
+                        self.assertEqual(signature(defined[name]), expected)
+
+    def check_class(self, found, methods):
+        for name, expected in methods.items():
+            self.assertIn(name, vars(found))
+            if expected != "property":
+                self.assertEqual(signature(getattr(found, name)), expected, name)
+            else:
+                self.assertIsInstance(vars(found)[name], property)
+
+
+if __name__ == "__main__":
+    unittest.main()
