@@ -26,6 +26,28 @@ FILES = {
     "tallgrass.notes.kinds": {
         "normal_note": "meadow, note", "opposite": "meadow, note", "holds": "day, note",
         "marks_where": "meadow, sign, **limits"},
+    "tallgrass.notes.reading": {
+        "Reading": {"__init__": "self, meadow, sign, marks", "every": "meadow, sign", "nothing": "meadow, sign",
+                    "__and__": "self, other", "__or__": "self, other", "__sub__": "self, other",
+                    "__xor__": "self, other", "__invert__": "self", "__contains__": "self, x", "__eq__": "self, other",
+                    "__len__": "self", "__iter__": "self", "old": "property", "within": "self, other",
+                    "as_note": "self"}},
+    "tallgrass.notes.book": {
+        "Book": {"__init__": "self, meadow, homes, *notes", "made": "meadow, homes, notes", "home": "self, walker",
+                 "homes": "self", "__add__": "self, other", "__sub__": "self, other", "__and__": "self, other",
+                 "__contains__": "self, x", "__len__": "self", "__iter__": "self", "__eq__": "self, other",
+                 "fits": "self, day", "broken": "self, day", "allowed": "self, sign", "may_start": "self, walker",
+                 "gate": "self, walker, path", "must": "self, sign"},
+        "exact_book": "day"},
+    "tallgrass.notes.notetext": {
+        "note_text": "meadow, note", "read_note": "meadow, line", "book_text": "book", "read_book": "meadow, text"},
+    "tallgrass.sweep.sweeping": {
+        "Sweep": {"__init__": "self, book", "late": "self, sign", "lates": "self", "freed": "self, hour",
+                  "passable": "self, walker, path, hour", "reach": "self, walker, hour"},
+        "sweep": "book", "sweep_table": "book"},
+    "tallgrass.sweep.papers": {
+        "some_day_fits": "book", "failing": "book", "day_for": "book", "ceiling_for": "book"},
+    "tallgrass.sweep.judging": {"is_ceiling": "book, table", "bars": "book, table"},
 }
 
 
