@@ -43,6 +43,10 @@ class Possible(GrassCase):
         for good in [(2, "r", "p", "a"), (2, "r", "q", "c"), (3, "r", "q", "c"), (3, "s", "q", "b")]:
             self.assertEqual(len(Day(meadow, STARTS, [first, good])), 2)
 
+    def test_a_bad_first_going(self):
+        for bad in [(0, "r", "p", "b"), (-1, "r", "p", "b"), (4, "r", "p", "b"), (1, "s", "p", "b"), OLD]:
+            self.check_error(BadGoing, 0, Day, line_meadow(), STARTS, [bad])
+
     def test_a_gate_of_nought(self):
         meadow = Meadow(1, ["a", "b"], ["r", "s"], [("p", "a", "b")], gates=[("r", "p", 0)])
         self.check_error(BadGoing, 0, Day, meadow, {"r": "a", "s": "a"}, [(1, "r", "p", "b")])

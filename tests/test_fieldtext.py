@@ -57,7 +57,9 @@ class MeadowText(GrassCase):
                      "sign walkers r paths p", "sign w walkers r p", "sign paths walkers r", "hours 3", "hours 2",
                      "home r a", "meadow", " place d", "place d ", "place  d", "place d\r", "place\td", "# place d",
                      "sign w walkers r paths p paths p", "sign w walkers r walkers s paths p", "sign w walkers paths",
-                     "sign w walkers r paths p ", "sign paths walkers r paths p"):
+                     "sign w walkers r paths p ", "sign paths walkers r paths p", "gates r q 1", "paths t a b",
+                     "signs w walkers r paths p", "sign w by r paths p", "sign w walkers r by p", "places d",
+                     "walkers t"):
             self.check_bad(13, *LINES, line)
             self.check_bad(13, *LINES, line, "nonsense")
 
@@ -144,12 +146,12 @@ class DayText(GrassCase):
         self.check_error(BadLine, 1, read_day, line_meadow(), "")
 
     def test_bad_goings(self):
-        for line in ("", "go", "go 2 r p", "go 2 r p b b", "go 2 r p a", "go 2 r p c", "go 2 r p x", "go 2 r x b",
-                     "go 2 x p b", "go 2 s p b", "go 4 s q c", "go 02 s q c", "go 0 s q c", "go +2 s q c", "go x s q c",
-                     "go " + LONG + " s q c", "go 2 s q c ", "go  2 s q c", "Go 2 s q c", "2 s q c", "go 2 s q c\r"):
+        for line in ("", "go", "go 3 s q", "go 3 s q c c", "go 3 r p a", "go 3 r q c", "go 3 s q x", "go 3 s x c",
+                     "go 3 x q c", "go 3 s p c", "go 2 s q c", "go 4 s q c", "go 03 s q c", "go 0 s q c", "go +3 s q c",
+                     "go x s q c", "go " + LONG + " s q c", "go 3 s q c ", " go 3 s q c", "go  3 s q c", "go\t3 s q c",
+                     "Go 3 s q c", "3 s q c", "gone 3 s q c", "go 3 s q c\r"):
             self.check_bad(6, *self.lines, line)
             self.check_bad(6, *self.lines, line, "nonsense")
-        self.check_bad(6, *self.lines, "go 2 s q c")
         self.assertEqual(len(read_day(line_meadow(), "\n".join(self.lines + ["go 3 s q c"]))), 4)
 
     def test_a_line_feed_at_the_end(self):

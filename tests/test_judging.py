@@ -75,6 +75,11 @@ class NoTables(GrassCase):
                       {"p": 3, "q": 4}, {"p": 3, "q": -1}, {"p": 4, "q": 4}, {"p": 3, "q": 3, "": 3}, {"p": 100, "q": 3}):
             self.check_no_table(table)
 
+    def test_a_number_below_nought(self):
+        book = Book(line_meadow(3), {"r": "a", "s": "a"}, ("start", "r", []), ("shows", "q", [OLD]))
+        self.assertEqual((is_ceiling(book, {"p": 3, "q": 0}), bars(book, {"p": 3, "q": 0})), (True, True))
+        self.assertEqual((is_ceiling(book, {"p": 3, "q": -1}), bars(book, {"p": 3, "q": -1})), (False, False))
+
     def test_no_signs(self):
         book = Book(Meadow(1, ["a", "b"], ["r"], []), {"r": "a"}, ("start", "r", ["b"]))
         self.assertEqual((is_ceiling(book, {}), bars(book, {})), (True, True))

@@ -149,6 +149,14 @@ class Failing(GrassCase):
         self.assertEqual(ceiling_for(Book(meadow, {"r": "a"}, ("start", "r", []))), {})
         self.assertEqual(day_for(Book(meadow, {"r": "a"})), Day(meadow, {"r": "a"}, []))
 
+    def test_a_start_behind_a_closed_path(self):
+        meadow = Meadow(1, ["a", "b"], ["r"], [("p", "a", "b")], gates=[("r", "p", 0)])
+        self.check_failing([("walker", "r")], ("start", "r", ["b"]), meadow=meadow, homes={"r": "a"})
+        meadow = Meadow(1, ["a", "b"], ["r"], [("p", "a", "b")])
+        self.check_failing([], ("start", "r", ["b"]), meadow=meadow, homes={"r": "a"})
+        self.check_failing([("walker", "r")], ("start", "r", ["b"]), ("off", "r", "p", 1), meadow=meadow,
+                           homes={"r": "a"})
+
     def test_what_is_returned_is_new(self):
         book = Book(line_meadow(3), HOMES, ("start", "r", []))
         failing(book).clear()

@@ -64,7 +64,6 @@ class Reading:
 
     def within(self, other):
         """Whether every mark of this reading is in the other one, too."""
-        self.check_alike(other)
         return len(self - other) == 0
 
     def as_note(self):

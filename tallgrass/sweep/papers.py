@@ -70,10 +70,9 @@ def goings_for_note(swept, note):
     meadow = swept.book.meadow
     if word == "at":
         return round_trip(meadow, hour, walker, way_to(swept, walker, name, hour))
-    near = swept.reach(walker, hour)
-    end = [place for place in meadow.ends(name) if place in near][0]
-    way = way_to(swept, walker, end, hour) + ((name, meadow.across(name, end)),)
-    return round_trip(meadow, hour, walker, way)
+    # The path is open to the walker, so that with one of its ends both are in reach.
+    low, high = meadow.ends(name)
+    return round_trip(meadow, hour, walker, way_to(swept, walker, low, hour) + ((name, high),))
 
 
 def goings_for_steps(swept, hour):
