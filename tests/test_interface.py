@@ -48,7 +48,25 @@ FILES = {
     "tallgrass.sweep.papers": {
         "some_day_fits": "book", "failing": "book", "day_for": "book", "ceiling_for": "book"},
     "tallgrass.sweep.judging": {"is_ceiling": "book, table", "bars": "book, table"},
+    "tallgrass.where.places": {
+        "whereabouts": "book, hour", "can_be": "book, walker, place, hour", "latest_at": "book, walker, place",
+        "latest_on": "book, walker, path", "meeting_places": "book, walkers, hour", "latest_meeting": "book, walkers"},
+    "tallgrass.where.stations": {"day_through": "book, stations"},
+    "tallgrass.asking.question": {
+        "Question": {"__init__": "self, meadow, note", "__and__": "self, other", "__or__": "self, other",
+                     "__invert__": "self", "__call__": "self, day", "text": "self", "read": "meadow, text"}},
+    "tallgrass.asking.answers": {
+        "possible": "book, question", "answer": "book, question", "parting": "book, question",
+        "books_for": "book, question"},
+    "tallgrass.asking.half": {
+        "Half": {"__init__": "self, meadow, homes, *notes", "books": "self", "homes_that_fit": "self",
+                 "answer": "self, question", "parting": "self, question"}},
+    "tallgrass.closing.implied": {
+        "implies": "book, other", "same_days": "book, other", "parting_day": "book, other", "needless": "book",
+        "thinned": "book"},
 }
+
+YIELDING = [("tallgrass.asking.answers", "books_for")]
 
 
 def signature(function):
@@ -77,6 +95,10 @@ class Interface(unittest.TestCase):
                         self.check_class(defined[name], expected)
                     else:
                         self.assertEqual(signature(defined[name]), expected)
+
+    def test_functions_that_yield(self):
+        for file, name in YIELDING:
+            self.assertTrue(inspect.isgeneratorfunction(self.defined(file)[name]))
 
     def check_class(self, found, methods):
         for name, expected in methods.items():

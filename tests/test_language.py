@@ -187,11 +187,11 @@ class Names(unittest.TestCase):
         self.assertFalse(stored & (own | values | ATTRIBUTES_BARRED))
         self.assertFalse(own & (METHODS | ATTRIBUTES_BARRED | BARRED))
         called = {id(node.func) for _, node in nodes(ast.Call)}
+        properties = {one.name for _, one in functions() if one.decorator_list}
         for path, node in nodes(ast.Attribute):
             if id(node) in called:
                 self.assertIn(node.attr, own | METHODS, path)
             elif isinstance(node.ctx, ast.Load):
-                properties = {one.name for _, one in functions() if one.decorator_list}
                 self.assertIn(node.attr, stored | values | properties, path)
 
 
@@ -244,6 +244,27 @@ class Statements(unittest.TestCase):
         for path, node in nodes((ast.Call, ast.Set, ast.SetComp)):
             if not isinstance(node, ast.Call) or isinstance(node.func, ast.Name) and node.func.id == "set":
                 self.assertIn((node.lineno, node.col_offset, ast.dump(node)), allowed, path)
+
+    def test_generators_are_iterated_at_once(self):
+        yielding = [node for _, node in functions() if nodes_of(node, (ast.Yield, ast.YieldFrom))]
+        names = {node.name for node in yielding}
+        self.assertEqual(len([node for _, node in functions() if node.name in names]), len(names))
+        for node in yielding:
+            self.assertFalse(node.decorator_list + nodes_of(node, ast.Try) + nodes_of(node, ast.With), node.name)
+            statements = [one.value for one in nodes_of(node, ast.Expr)]
+            for one in nodes_of(node, (ast.Yield, ast.YieldFrom)):
+                self.assertIn(one, statements)
+            for one in nodes_of(node, ast.Return):
+                self.assertIsNone(one.value)
+        iterated = {id(node.iter) for _, node in nodes((ast.For, ast.comprehension))}
+        iterated |= {id(node.value) for _, node in nodes(ast.YieldFrom)}
+        for _, node in nodes(ast.Call):
+            if isinstance(node.func, ast.Name) and node.func.id in ("list", "tuple", "sorted", "enumerate", "sum"):
+                iterated.add(id(node.args[0]))
+        calls = {id(node.func): node for _, node in nodes(ast.Call)}
+        for path, node in nodes((ast.Name, ast.Attribute)):
+            if (node.id if isinstance(node, ast.Name) else node.attr) in names:
+                self.assertIn(id(calls[id(node)]), iterated, path)
 
     def test_init_returns_nothing(self):
         for path, node in functions():

@@ -3,6 +3,9 @@
 from tallgrass.base.errors import BadName, BadNumber, TooMany, Twice, Unknown
 from tallgrass.base.words import is_name
 
+# The notes that a book may have where notes are added to it or taken away to find something out.
+MOST_ASKED = 16
+
 
 def check_number(number, least, most):
     if number not in range(least, most + 1):
@@ -25,3 +28,18 @@ def check_new(name, earlier):
         raise BadName(name)
     if name in earlier:
         raise Twice(name)
+
+
+def check_each(names, known):
+    """Checks names from the first: each must be known and stand once."""
+    for at, name in enumerate(names):
+        check_known(name, known)
+        if name in names[:at]:
+            raise Twice(name)
+
+
+def check_some(names, known):
+    """Checks names of which there must be at least one."""
+    if len(names) == 0:
+        raise BadNumber(0)
+    check_each(names, known)

@@ -1,7 +1,7 @@
 """The checks of single paths, gates and signs, each against the rows ahead of it."""
 
-from tallgrass.base.checks import check_known, check_new, check_number
-from tallgrass.base.errors import BadNumber, BadPath, Twice
+from tallgrass.base.checks import check_known, check_new, check_number, check_some
+from tallgrass.base.errors import BadPath, Twice
 
 
 def check_path_row(row, earlier, places):
@@ -27,14 +27,5 @@ def check_sign_row(row, earlier, walkers, paths):
     """Checks a sign; walkers and paths are the names that are declared."""
     name, watched_walkers, watched_paths = row
     check_new(name, [other[0] for other in earlier])
-    check_watched(watched_walkers, walkers)
-    check_watched(watched_paths, paths)
-
-
-def check_watched(names, known):
-    if len(names) == 0:
-        raise BadNumber(0)
-    for at, name in enumerate(names):
-        check_known(name, known)
-        if name in names[:at]:
-            raise Twice(name)
+    check_some(watched_walkers, walkers)
+    check_some(watched_paths, paths)

@@ -10,11 +10,13 @@ def freed_at(table, hour):
 
 
 class Ground:
-    def __init__(self, book):
+    """The ground of a book; caps is a dict with the last hour at which some walkers may go at all."""
+
+    def __init__(self, book, caps):
         meadow = book.meadow
         self.book = book
         self.meadow = meadow
-        self._gates = {(walker, path): book.gate(walker, path)
+        self._gates = {(walker, path): min(book.gate(walker, path), caps.get(walker, meadow.hours))
                        for walker in meadow.walkers for path in meadow.path_names()}
         self._allowed = {sign: {mark: True for mark in book.allowed(sign)} for sign in meadow.sign_names()}
         self._later = [(note[1], note[2]) for note in book.notes if note[0] == "later"]

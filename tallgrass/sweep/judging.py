@@ -16,7 +16,7 @@ def is_ceiling(book, table):
     """Whether at no hour any going can free under the table."""
     if not is_table(book.meadow, table):
         return False
-    ground = Ground(book)
+    ground = Ground(book, {})
     return all([ground.least_step(hour, freed_at(table, hour)) is None
                 for hour in range(1, book.meadow.hours + 1)])
 
@@ -25,4 +25,4 @@ def bars(book, table):
     """Whether the table is a ceiling under which no day can fit."""
     if not is_ceiling(book, table):
         return False
-    return len(faults_under(Ground(book), table)) > 0
+    return len(faults_under(Ground(book, {}), table)) > 0

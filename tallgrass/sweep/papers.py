@@ -1,9 +1,13 @@
 """The two papers of a book: a day that fits it, or a table that shows that there is none."""
 
-from tallgrass.field.days import Day
+from tallgrass.base.errors import NoDay
 from tallgrass.sweep.faults import faults_under
-from tallgrass.sweep.ground import freed_at
 from tallgrass.sweep.sweeping import Sweep
+from tallgrass.sweep.trips import day_of_trips
+
+
+def faults_of(swept):
+    return faults_under(swept.ground, swept.lates())
 
 
 def some_day_fits(book):
@@ -12,14 +16,13 @@ def some_day_fits(book):
 
 def failing(book):
     """The notes, then the signs, then the walkers because of which no day fits."""
-    swept = Sweep(book)
-    return faults_under(swept.ground, swept.lates())
+    return faults_of(Sweep(book))
 
 
 def ceiling_for(book):
     """A table that bars the book, or None if some day fits."""
     swept = Sweep(book)
-    if len(faults_under(swept.ground, swept.lates())) == 0:
+    if len(faults_of(swept)) == 0:
         return None
     return swept.lates()
 
@@ -27,65 +30,14 @@ def ceiling_for(book):
 def day_for(book):
     """A day that fits in which every sign is touched as late as it can be, or None."""
     swept = Sweep(book)
-    if len(faults_under(swept.ground, swept.lates())) > 0:
+    if len(faults_of(swept)) > 0:
         return None
-    starts = {walker: start_for(swept, walker) for walker in book.meadow.walkers}
-    goings = []
-    for walker in book.meadow.walkers:
-        goings.extend(goings_home(book.meadow, 1, walker, way_to(swept, walker, starts[walker], 1)))
-    for hour in range(1, book.meadow.hours + 1):
-        for note in book.notes:
-            if note[0] in ("at", "on") and note[3] == hour:
-                goings.extend(goings_for_note(swept, note))
-        goings.extend(goings_for_steps(swept, hour))
-    return Day(book.meadow, starts, goings)
+    return day_of_trips(swept, [])
 
 
-def way_to(swept, walker, place, hour):
-    """A way from the home of the walker to a place in its reach at the hour."""
-    return swept.ground.ways(walker, hour, freed_at(swept.lates(), hour))[place]
-
-
-def start_for(swept, walker):
-    near = swept.reach(walker, 1)
-    return [place for place in swept.book.may_start(walker) if place in near][0]
-
-
-def goings_out(hour, walker, way):
-    return [(hour, walker, path, place) for path, place in way]
-
-
-def goings_home(meadow, hour, walker, way):
-    """The goings back along a way that leads out from the home."""
-    return [(hour, walker, path, meadow.across(path, place)) for path, place in reversed(way)]
-
-
-def round_trip(meadow, hour, walker, way):
-    return goings_out(hour, walker, way) + goings_home(meadow, hour, walker, way)
-
-
-def goings_for_note(swept, note):
-    """A trip from the home and back that makes an at or on note hold."""
-    word, walker, name, hour = note
-    meadow = swept.book.meadow
-    if word == "at":
-        return round_trip(meadow, hour, walker, way_to(swept, walker, name, hour))
-    # The path is open to the walker, so that with one of its ends both are in reach.
-    low, high = meadow.ends(name)
-    return round_trip(meadow, hour, walker, way_to(swept, walker, low, hour) + ((name, high),))
-
-
-def goings_for_steps(swept, hour):
-    """The trips for the steps of the hour, from the last step to the first.
-
-    Each uses only signs that are freed ahead of its step, so that the trips behind it touch them again.
-    """
-    meadow = swept.book.meadow
-    goings = []
-    for at in range(len(swept.order) - 1, -1, -1):
-        number, walker, path, place, _ = swept.order[at]
-        if number == hour:
-            freed = {sign: True for step in swept.order[:at] for sign in step[4]}
-            way = swept.ground.ways(walker, hour, freed)[place] + ((path, meadow.across(path, place)),)
-            goings.extend(round_trip(meadow, hour, walker, way))
-    return goings
+def fitting_sweep(book):
+    """The sweep of a book that some day must fit."""
+    swept = Sweep(book)
+    if len(faults_of(swept)) > 0:
+        raise NoDay()
+    return swept

@@ -3,23 +3,34 @@
 from tallgrass.sweep.ground import Ground, freed_at
 
 
+def steps_over(ground):
+    """The steps of the sweep that goes over the ground."""
+    freed = {}
+    steps = []
+    for hour in range(ground.meadow.hours, 0, -1):
+        step = ground.least_step(hour, freed)
+        while step is not None:
+            steps.append(step)
+            for sign in step[4]:
+                freed[sign] = hour
+            step = ground.least_step(hour, freed)
+    return steps
+
+
+def lates_of(meadow, steps):
+    """For each sign the hour of the step that frees it, or 0."""
+    freed = {sign: step[0] for step in steps for sign in step[4]}
+    return {sign: freed.get(sign, 0) for sign in meadow.sign_names()}
+
+
 class Sweep:
     """The sweep of a book; ground is what it went over."""
 
     def __init__(self, book):
         self.book = book
-        self.ground = Ground(book)
-        freed = {}
-        steps = []
-        for hour in range(book.meadow.hours, 0, -1):
-            step = self.ground.least_step(hour, freed)
-            while step is not None:
-                steps.append(step)
-                for sign in step[4]:
-                    freed[sign] = hour
-                step = self.ground.least_step(hour, freed)
-        self.order = tuple(steps)
-        self._lates = {sign: freed.get(sign, 0) for sign in book.meadow.sign_names()}
+        self.ground = Ground(book, {})
+        self.order = tuple(steps_over(self.ground))
+        self._lates = lates_of(book.meadow, self.order)
 
     def late(self, sign):
         """The hour at which the sign is freed, or 0."""

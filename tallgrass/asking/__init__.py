@@ -1,0 +1,1 @@
+"""Questions, and how books and half books answer them."""

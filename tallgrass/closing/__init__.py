@@ -1,0 +1,1 @@
+"""What books imply, and all that holds in every day that fits."""

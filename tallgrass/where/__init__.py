@@ -1,0 +1,1 @@
+"""Where the walkers can have been, alone and together, and days that pass stations."""
