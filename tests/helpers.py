@@ -51,6 +51,23 @@ def small_meadows():
     ]
 
 
+def meadow_of(hours=3, places=4, paths=5, walkers=2, signs=5):
+    """A meadow with so many of everything; without arguments it is the largest that is small."""
+    names = "abcdefg"[:places]
+    rows = [(f"p{at}", names[at % places], names[(at + 1) % places]) for at in range(paths)]
+    group = ["r", "s", "t"][:walkers]
+    return Meadow(hours, list(names), group, rows, signs=[(f"u{at}", group, [f"p{at % paths}"]) for at in range(signs)])
+
+
+def larger_meadows():
+    """Meadows that are not small, each by one more of something."""
+    return [meadow_of(hours=4), meadow_of(places=5), meadow_of(paths=6), meadow_of(walkers=3), meadow_of(signs=6)]
+
+
+def all_at(meadow, place):
+    return {walker: place for walker in meadow.walkers}
+
+
 def next_goings(day):
     """All goings that are possible behind those of the day."""
     meadow = day.meadow

@@ -64,9 +64,21 @@ FILES = {
     "tallgrass.closing.implied": {
         "implies": "book, other", "same_days": "book, other", "parting_day": "book, other", "needless": "book",
         "thinned": "book"},
+    "tallgrass.closing.closure": {
+        "Closure": {"__init__": "self, book", "marks_of": "self, sign", "starts_of": "self, walker",
+                    "at": "self, walker, place", "away": "self, walker, place", "on": "self, walker, path",
+                    "off": "self, walker, path", "later": "self, sign, other", "as_notes": "self",
+                    "__eq__": "self, other"},
+        "closure": "book", "is_small": "meadow"},
+    "tallgrass.least.lots": {"lot": "book", "is_lot": "book, notes"},
+    "tallgrass.least.strikes": {"fewest_strikes": "book", "judge_strikes": "book, struck, day, lots"},
+    "tallgrass.least.shortest": {"fewest_goings": "book", "shortest_day": "book", "fitting_days": "book, most"},
+    "tallgrass.least.movers": {"can_alone": "book, walkers", "least_movers": "book"},
+    "tallgrass.sides.side": {
+        "Side": {"__init__": "self, book, place, outsiders", "__add__": "self, other"}},
 }
 
-YIELDING = [("tallgrass.asking.answers", "books_for")]
+YIELDING = [("tallgrass.asking.answers", "books_for"), ("tallgrass.least.shortest", "fitting_days")]
 
 
 def signature(function):

@@ -59,9 +59,9 @@ class Meadow:
         self._ends = {name: (low, high) for name, low, high in self.paths}
         self.gates = checked_gates(gates, hours, self.walkers, self._ends)
         self.signs = checked_signs(signs, Meadow.MOST_SIGNS, self.walkers, self._ends)
-        self._gate = {(walker, path): hours for walker in self.walkers for path in self._ends}
-        for walker, path, hour in self.gates:
-            self._gate[(walker, path)] = hour
+        lower = {(walker, path): hour for walker, path, hour in self.gates}
+        self._gate = {(walker, path): lower.get((walker, path), hours)
+                      for walker in self.walkers for path in self._ends}
         self._watching = {pair: self._watchers(pair) for pair in self._gate}
         self._paths_at = {place: self._paths_to(place) for place in self.places}
         self._marks = {row[0]: self._marks_of(row) for row in self.signs}

@@ -1,0 +1,1 @@
+"""Lots, fewest strikes, shortest days, and who can have gone alone."""

@@ -1,0 +1,1 @@
+"""Sides of a joined meadow."""
