@@ -97,12 +97,13 @@ class Halves(GrassCase):
         self.assertEqual(Half(MEADOW, HOMES, ("start", "r", [])).parting(home), (None, None))
 
     def test_days_of_different_books(self):
-        half = Half(Meadow(1, ["a", "b"], ["r"], []), {"r": ["b", "a"]})
-        question = Question(half.meadow, ("at", "r", "a", 1))
+        meadow = Meadow(1, ["a", "b"], ["r"], [])
+        half = Half(meadow, {"r": ["b", "a"]})
+        question = Question(meadow, ("at", "r", "a", 1))
         true_day, false_day = half.parting(question)
         self.assertEqual((true_day.homes(), false_day.homes()), ({"r": "a"}, {"r": "b"}))
         self.assertEqual((half.answer(question), half.answer(~question)), ("perhaps", "perhaps"))
-        half = Half(half.meadow, {"r": ["b", "a"]}, ("away", "r", "a", 1))
+        half = Half(meadow, {"r": ["b", "a"]}, ("away", "r", "a", 1))
         self.assertEqual((half.answer(question), half.answer(~question)), ("never", "surely"))
 
     def test_random_questions(self):
@@ -112,7 +113,7 @@ class Halves(GrassCase):
         for at in range(4):
             for _ in range(25):
                 half, days = random_half(at, rng)
-                question = [pair[0] for pair in few_questions(half.meadow, rng, 8) if len(pair[0].notes) <= 3][0]
+                question = [pair[0] for pair in few_questions(small_meadows()[at], rng, 8) if len(pair[0].notes) <= 3][0]
                 found.append(self.check_answer(half, question, days))
                 self.assertEqual(half.answer(~question), turned[found[-1]])
         for word in turned:

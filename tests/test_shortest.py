@@ -1,6 +1,7 @@
 """Days with few goings: points 50 and 51, and tallgrass/least/shortest.py."""
 
 import itertools
+import random
 import unittest
 
 from helpers import GrassCase, all_at, all_days, larger_meadows, line_meadow, meadow_of, small_meadows
@@ -9,7 +10,7 @@ from tallgrass.base.errors import BadNote, BadNumber, NoDay, TooLarge, TooMany
 from tallgrass.field.days import Day
 from tallgrass.field.meadow import OLD, Meadow
 from tallgrass.least.shortest import fewest_goings, fitting_days, shortest_day
-from tallgrass.notes.book import Book
+from tallgrass.notes.book import Book, exact_book
 from tallgrass.sweep.papers import some_day_fits
 
 MEADOW = line_meadow(3)
@@ -86,6 +87,17 @@ class Shortest(GrassCase):
                     self.check_book(book, fewest_goings(book))
                 seen.add(fewest_goings(book))
         self.assertLessEqual({0, 1, 2, 3, 4}, seen)
+
+    def test_exact_books(self):
+        seen = set()
+        for at in range(4):
+            days = days_by_homes(at)
+            for day in random.Random(at).sample([day for row in days.values() for day in row], 40):
+                book = exact_book(day)
+                fewest = min(len(other) for other in days[tuple(day.homes().values())] if book.fits(other))
+                self.check_book(book, fewest)
+                seen.add(fewest)
+        self.assertLessEqual({1, 2, 3, 4}, seen)
 
     def test_bounds(self):
         for call in (fewest_goings, shortest_day):

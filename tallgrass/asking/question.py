@@ -51,8 +51,8 @@ class Question:
 def put_together(meadow, row):
     """The question of a row."""
     check_count(operators_in(row), MOST_OPERATORS)
-    made = Question(meadow, row[0])
-    made._row = row
-    made.notes = tuple(sorted(set([item for item in row if isinstance(item, tuple)])))
-    made.operators = operators_in(row)
-    return made
+    question = Question(meadow, row[0])
+    question._row = row
+    question.notes = tuple(sorted(set([item for item in row if isinstance(item, tuple)])))
+    question.operators = operators_in(row)
+    return question
