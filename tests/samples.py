@@ -4,7 +4,10 @@ import functools
 import random
 
 from helpers import all_days, small_meadows
+from tallgrass.base.errors import BadNote
+from tallgrass.field.meadow import Meadow
 from tallgrass.notes.book import Book
+from tallgrass.sides.side import Side
 
 
 def random_note(meadow, rng):
@@ -57,3 +60,20 @@ def sampled(at, count=30, most=4, seed=11):
 def all_sampled():
     """Books about all the small meadows with the days with few goings that fit."""
     return [pair for at in range(len(small_meadows())) for pair in sampled(at)]
+
+
+def random_side(rng, walkers, outsiders, places="abm", path="p", sign="u", hours=2, most=4):
+    """A side joined at m; the names of its paths and signs begin with the letters."""
+    while True:
+        rows = [(f"{path}{at}", *rng.sample(places, 2)) for at in range(rng.randint(1, 4))]
+        names = [row[0] for row in rows]
+        gates = [(walker, name, rng.randint(0, hours)) for walker in walkers for name in names if rng.random() < 0.2]
+        signs = [(f"{sign}{at}", rng.sample(walkers, rng.randint(1, len(walkers))), rng.sample(names, rng.randint(1, len(names))))
+                 for at in range(rng.randint(2, 4))]
+        meadow = Meadow(hours, list(places), walkers, rows, gates=gates, signs=signs)
+        homes = {walker: "m" if walker in outsiders else rng.choice(places) for walker in walkers}
+        notes = [random_note(meadow, rng) for _ in range(rng.randint(1, most))]
+        try:
+            return Side(Book(meadow, homes, *notes), "m", outsiders)
+        except BadNote:
+            continue

@@ -8,6 +8,8 @@ import unittest
 ERRORS = ("GrassError BadName Unknown Twice BadPath BadPlacing BadNumber TooMany BadGoing OutOfReach BadMark BadNote "
           "NotThere BadLine Clash NoDay TooLarge").split()
 
+TOLD = "*, morning=None, starts=None, trodden=False"
+
 # The signatures of functions and methods; a class stands with its own parameters under __init__.
 FILES = {
     "tallgrass.field.meadow": {
@@ -76,9 +78,25 @@ FILES = {
     "tallgrass.least.movers": {"can_alone": "book, walkers", "least_movers": "book"},
     "tallgrass.sides.side": {
         "Side": {"__init__": "self, book, place, outsiders", "__add__": "self, other"}},
+    "tallgrass.sides.face": {
+        "Face": {"__init__": "self, side", "ok": "self, arrivals", "coming": "self, arrivals"},
+        "face": "side", "coming_hours": "*faces", "faces_fit": "*faces"},
+    "tallgrass.sides.unlike": {"same_face": "first, second", "parting_side": "first, second"},
+    "tallgrass.plain.leading": {
+        "leading_home": "meadow, lying, homes", "is_untrodden": "meadow, lying, homes, places",
+        "untrodden_sets": "meadow, lying, homes"},
+    "tallgrass.plain.grassbook": {
+        "grass_book": "meadow, homes, lying, " + TOLD, "plain_fits": "meadow, homes, lying, " + TOLD},
+    "tallgrass.plain.ordering": {
+        "surely_later": "meadow, lying, homes, path, other", "way_past": "meadow, lying, homes, path, other",
+        "later_pairs": "meadow, lying, homes", "last_paths": "meadow, lying, homes"},
+    "tallgrass.plain.strangers": {
+        "bottoms": "meadow, lying", "company_suffices": "meadow, lying, places", "fewest_strangers": "meadow, lying",
+        "least_companies": "meadow, lying"},
 }
 
-YIELDING = [("tallgrass.asking.answers", "books_for"), ("tallgrass.least.shortest", "fitting_days")]
+YIELDING = [("tallgrass.asking.answers", "books_for"), ("tallgrass.least.shortest", "fitting_days"),
+            ("tallgrass.plain.leading", "untrodden_sets"), ("tallgrass.plain.strangers", "least_companies")]
 
 
 def signature(function):

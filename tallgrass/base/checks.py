@@ -1,6 +1,6 @@
 """Checks that many parts of the program share."""
 
-from tallgrass.base.errors import BadName, BadNumber, TooMany, Twice, Unknown
+from tallgrass.base.errors import BadName, BadNumber, BadPlacing, TooMany, Twice, Unknown
 from tallgrass.base.words import is_name
 
 # The notes that a book may have where notes are added to it or taken away to find something out.
@@ -43,3 +43,17 @@ def check_some(names, known):
     if len(names) == 0:
         raise BadNumber(0)
     check_each(names, known)
+
+
+def check_entries(table, allowed):
+    """Checks a dict, from its least key, against another one that has for each key what may stand there."""
+    for name in sorted(table):
+        if name not in allowed or table[name] not in allowed[name]:
+            raise BadPlacing(name)
+
+
+def check_all_entries(table, allowed):
+    """Checks a dict in the same way that must have an entry for every key of the other one."""
+    for name in sorted(list(allowed) + list(table)):
+        if name not in table or name not in allowed or table[name] not in allowed[name]:
+            raise BadPlacing(name)

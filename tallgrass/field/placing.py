@@ -1,14 +1,18 @@
 """Dicts from walkers to places: the starts and the homes, given or written in a text."""
 
-from tallgrass.base.errors import BadLine, BadPlacing
+from tallgrass.base.checks import check_all_entries
+from tallgrass.base.errors import BadLine
 from tallgrass.base.words import words_of
+
+
+def all_places(meadow):
+    """For each walker the places at which it may stand."""
+    return {walker: meadow.places for walker in meadow.walkers}
 
 
 def checked_placing(meadow, placing):
     """A copy of a dict that must have a place for every walker and no other key."""
-    for name in sorted(list(meadow.walkers) + list(placing)):
-        if name not in meadow.walkers or name not in placing or placing[name] not in meadow.places:
-            raise BadPlacing(name)
+    check_all_entries(placing, all_places(meadow))
     return {walker: placing[walker] for walker in meadow.walkers}
 
 

@@ -1,7 +1,8 @@
 """Days that pass stations: hours at which some walkers must be at given places together."""
 
-from tallgrass.base.checks import check_count, check_number
-from tallgrass.base.errors import BadPlacing, OutOfReach
+from tallgrass.base.checks import check_count, check_entries, check_number
+from tallgrass.base.errors import OutOfReach
+from tallgrass.field.placing import all_places
 from tallgrass.sweep.papers import fitting_sweep
 from tallgrass.sweep.trips import day_of_trips
 
@@ -23,7 +24,5 @@ def check_stations(meadow, stations):
     least = 1
     for hour, placing in stations:
         check_number(hour, least, meadow.hours)
-        for name in sorted(placing):
-            if name not in meadow.walkers or placing[name] not in meadow.places:
-                raise BadPlacing(name)
+        check_entries(placing, all_places(meadow))
         least = hour
