@@ -255,6 +255,16 @@ class Together(GrassCase):
             self.check_error(Clash, None, faces_fit, *faces)
         self.assertEqual(coming_hours(one, two), {"r": 2, "s": 2})
 
+    def test_clash_of_walkers_that_are_no_residents(self):
+        """The residents are just the walkers of one face, but another one has other outsiders."""
+        one = face(left())
+        for walkers, outsiders in ((["s", "t"], ["t"]), (["r", "s", "t"], ["r", "t"]), (["s"], [])):
+            meadow = Meadow(2, ["m"], walkers, [])
+            two = face(Side(Book(meadow, all_at(meadow, "m")), "m", outsiders))
+            for faces in ((one, two), (two, one)):
+                self.check_error(Clash, None, coming_hours, *faces)
+                self.check_error(Clash, None, faces_fit, *faces)
+
     def test_what_is_returned_is_new(self):
         one, two = face(left()), face(right())
         coming_hours(one, two).clear()

@@ -99,6 +99,20 @@ class Same(GrassCase):
         self.assertEqual([row[1] for row in face(first).rows], [row[1] for row in face(second).rows])
         self.assertIs(same_face(face(first), face(second)), False)
 
+    def test_only_a_raised_number_shows_the_difference(self):
+        """The coming hours differ only where nobody arrives and neither side is good."""
+        first, second = self.late_ones()
+        self.assertEqual(face(first).rows, (((0,), False, (1,)), ((1,), True, (1,)), ((2,), True, (1,))))
+        self.assertEqual(face(second).rows, (((0,), False, (0,)), ((1,), True, (1,)), ((2,), True, (1,))))
+        self.assertIs(same_face(face(first), face(second)), False)
+        third = parting_side(first, second)
+        self.assertEqual([some_day_fits((side + third).book) for side in (first, second)], [True, False])
+
+    def late_ones(self):
+        meadow = Meadow.grassy(2, ["a", "b", "m"], ["r", "s"], [("p", "a", "m"), ("q", "b", "m")])
+        notes = [("off", "r", "p", 2), ("on", "s", "q", 1)]
+        return left(*notes, meadow=meadow), left(*notes, ("shows", "p", [(1, "s", "p", "m")]), meadow=meadow)
+
     def test_a_difference_that_does_not_count(self):
         """A resident comes later under some arrival hours, but the side is good under none that it could bring about."""
         late = ("on", "s", "p", 2)
@@ -187,7 +201,7 @@ class Parting(GrassCase):
         plain = [("q", "n", "z", "a"), ("o", "k", "x", "c"), ("q1", "q2", "q0", "b1"), ("b", "c", "d", "e")]
         for places, others in itertools.permutations(plain, 2):
             for paths, signs in (("abcde", "abcde"), ("pqrst", "stuvw"), ("fghij", "qrsxy")):
-                first = self.named("m" + "", places, paths, signs, ("off", "r", paths[0], 1))
+                first = self.named("m", places, paths, signs, ("off", "r", paths[0], 1))
                 second = self.named("m", others, paths[::-1], signs[::-1])
                 self.assertEqual(self.check_third(first, second), 1)
                 self.assertEqual(self.check_third(second, first), 1)
@@ -199,6 +213,13 @@ class Parting(GrassCase):
                         + [(path, places[1], places[2]) for path in paths[1:]],
                         signs=[(sign, ["r", "s"], [paths[1]]) for sign in signs])
         return Side(Book(meadow, {"r": places[0], "s": place}, *notes), place, ["s"])
+
+    def test_names_of_one_side_alone(self):
+        """A new name is free on both sides, whichever of them has the first letters."""
+        first = self.named("m", "abc", "abcde", "abcde", ("off", "r", "a", 1))
+        second = self.named("m", "def", "fghij", "fghij")
+        self.assertEqual(self.check_third(first, second), 1)
+        self.assertEqual(self.check_third(second, first), 1)
 
     def test_the_common_place_has_any_name(self):
         for place in ("a", "b", "q", "z", "a1"):
