@@ -41,7 +41,8 @@ def lyings(meadow):
 
 def subsets(names):
     """All sets of names, as ascending tuples, ascending."""
-    return sorted(row for count in range(len(names) + 1) for row in itertools.combinations(sorted(names), count))
+    names = sorted(names)
+    return sorted(row for count in range(len(names) + 1) for row in itertools.combinations(names, count))
 
 
 def leads(meadow, lying, place):

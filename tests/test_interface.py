@@ -93,10 +93,27 @@ FILES = {
     "tallgrass.plain.strangers": {
         "bottoms": "meadow, lying", "company_suffices": "meadow, lying, places", "fewest_strangers": "meadow, lying",
         "least_companies": "meadow, lying"},
+    "tallgrass.plain.turned": {
+        "fewest_turned": "meadow, lying, homes", "judge_turned": "meadow, lying, homes, paths, sets"},
+    "tallgrass.plain.lyings": {
+        "paths_of_lying": "meadow, homes, lying", "lying_of_paths": "meadow, homes, paths",
+        "joined_with": "meadow, homes, paths"},
+    "tallgrass.plain.counting": {
+        "count_leading": "meadow, homes", "count_by_leading": "meadow, homes", "evenings": "meadow, homes, " + TOLD,
+        "count_evenings": "meadow, homes, " + TOLD},
+    "tallgrass.desk.desk": {
+        "Desk": {"__init__": "self, meadow, homes", "limit": "property", "standing": "property", "current": "self",
+                 "sound": "self", "tell": "self, note", "together": "self, notes", "strike": "self, number",
+                 "undo": "self", "redo": "self", "set_limit": "self, number", "late": "self, sign",
+                 "whereabouts": "self, hour", "answer": "self, question", "tried": "self, notes, question",
+                 "lot": "self", "strikes": "self", "clash": "self", "homes": "self"}},
+    "tallgrass.desk.desktext": {"desk_text": "desk", "read_desk": "meadow, text"},
+    "tallgrass.desk.language": {"run_lines": "desk, text"},
 }
 
 YIELDING = [("tallgrass.asking.answers", "books_for"), ("tallgrass.least.shortest", "fitting_days"),
-            ("tallgrass.plain.leading", "untrodden_sets"), ("tallgrass.plain.strangers", "least_companies")]
+            ("tallgrass.plain.leading", "untrodden_sets"), ("tallgrass.plain.strangers", "least_companies"),
+            ("tallgrass.plain.counting", "evenings")]
 
 
 def signature(function):

@@ -108,7 +108,18 @@ class Modules(unittest.TestCase):
                 fits = isinstance(node, (ast.ImportFrom, ast.FunctionDef, ast.ClassDef, ast.Assign))
                 self.assertTrue(doc or fits, (path, node.lineno))
                 if isinstance(node, ast.Assign):
-                    ast.literal_eval(node.value)
+                    self.check_plain(node.value, [one.name for one in tree.body[:at] if isinstance(one, ast.FunctionDef)])
+
+    def check_plain(self, value, functions_above):
+        """A plain value, or a dict of such and of functions defined above."""
+        if isinstance(value, ast.Dict):
+            for one in value.keys + value.values:
+                if not isinstance(one, ast.Name):
+                    ast.literal_eval(one)
+                else:
+                    self.assertIn(one.id, functions_above)
+        else:
+            ast.literal_eval(value)
 
     def test_imports(self):
         after = {}
@@ -188,9 +199,12 @@ class Names(unittest.TestCase):
         self.assertFalse(own & (METHODS | ATTRIBUTES_BARRED | BARRED))
         called = {id(node.func) for _, node in nodes(ast.Call)}
         properties = {one.name for _, one in functions() if one.decorator_list}
+        decorators = {id(one) for _, function in functions() for one in function.decorator_list}
         for path, node in nodes(ast.Attribute):
             if id(node) in called:
                 self.assertIn(node.attr, own | METHODS, path)
+            elif id(node) in decorators:
+                self.assertEqual(node.attr, "setter", path)
             elif isinstance(node.ctx, ast.Load):
                 self.assertIn(node.attr, stored | values | properties, path)
 

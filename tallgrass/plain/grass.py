@@ -61,3 +61,9 @@ def joined(meadow, homes, paths):
     """The places that are joined with a home by some of the paths, ascending."""
     ends = [meadow.ends(path) for path in paths]
     return spread(ends + [(high, low) for low, high in ends], homes)
+
+
+def is_led(meadow, lying, homes):
+    """Whether each place at which a path ends leads home."""
+    near = leading(meadow, lying, homes)
+    return all([place in near for place in trodden_places(meadow)])

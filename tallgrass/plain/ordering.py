@@ -1,7 +1,7 @@
 """Which path was trodden later than another, if all were trodden and every place leads home."""
 
 from tallgrass.base.errors import BadPath, NoDay
-from tallgrass.plain.grass import blades, check_homes, check_lying, leading, trodden_places
+from tallgrass.plain.grass import blades, check_homes, check_lying, is_led
 
 
 def surely_later(meadow, lying, homes, path, other):
@@ -40,9 +40,7 @@ def last_paths(meadow, lying, homes):
 
 
 def check_led(meadow, lying, homes):
-    """Checks that each place at which a path ends leads home."""
-    near = leading(meadow, lying, homes)
-    if not all([place in near for place in trodden_places(meadow)]):
+    if not is_led(meadow, lying, homes):
         raise NoDay()
 
 

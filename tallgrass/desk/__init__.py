@@ -1,0 +1,1 @@
+"""The desk at which notes arrive one by one."""
