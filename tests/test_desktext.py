@@ -126,6 +126,8 @@ class Read(GrassCase):
                      "note 3\tat r c 2", "note 2" + "0" * 5000 + " at r c 2"):
             self.check_bad(5, self.changed(5, line))
         self.assertEqual(len(read_desk(MEADOW, self.changed(5, "note 2 at r c 2")).standing), 3)
+        for line in ("tell 1 at r c 2", "Note 1 at r c 2", "note 0 at r b 2", "notes 1 at r b 2"):
+            self.check_bad(4, self.changed(4, line))
         self.check_bad(6, self.changed(5, "note 4 at r c 2"))
         self.check_bad(6, self.changed(6, "note 3 at r c 2"))
         self.check_bad(6, self.changed(6, "note 2 at r c 2"))

@@ -55,6 +55,8 @@ class Paired(GrassCase):
         self.assertEqual(paths_of_lying(RING, ["a"], ROUND), ["q", "s"])
         self.assertEqual(lying_of_paths(RING, ["a"], ["q", "s"]), ROUND)
         self.assertEqual(lying_of_paths(RING, ["a"], []), {"p": "b", "q": "b", "s": "c"})
+        self.assertEqual(paths_of_lying(RING, ("a",), ROUND), ["q", "s"])
+        self.assertEqual(lying_of_paths(RING, ("a", "a"), ("s", "q")), ROUND)
         self.assertEqual(joined_with(RING, ["a"], ["q"]), ["a"])
         self.assertEqual(joined_with(RING, ["a"], ["q", "p"]), ["a", "b", "c"])
         self.assertEqual(joined_with(RING, ["c", "a", "a"], []), ["a", "c"])

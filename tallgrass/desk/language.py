@@ -2,7 +2,7 @@
 
 from tallgrass.asking.question import Question
 from tallgrass.base.errors import BadLine, GrassError
-from tallgrass.base.words import NO_NUMBER, number_of, words_of
+from tallgrass.base.words import number_of, words_of
 from tallgrass.notes.notetext import note_text, read_note
 
 
@@ -13,12 +13,9 @@ def check_end(words, count):
 
 
 def only_number(words):
-    """The number that is all there is behind the first word."""
+    """The number that is all there is behind the first word; NO_NUMBER, which every deed refuses, if it is none."""
     check_end(words, 1)
-    number = number_of(words[0])
-    if number == NO_NUMBER:
-        raise BadLine(1)
-    return number
+    return number_of(words[0])
 
 
 def with_numbers(word, numbers):
